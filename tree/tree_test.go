@@ -71,7 +71,7 @@ func ordinary() map[string]api.Tree {
 func checkMay(t *testing.T, what string, x api.Tree, want bool) {
 	t.Helper()
 	if tree.May(x) != want {
-		t.Errorf("%s: May(%.300v): %v", what, x, !want)
+		t.Errorf("%s: May(%v): %v", what, x, !want)
 	}
 }
 
@@ -467,7 +467,7 @@ func TestDepthAndSize(t *testing.T) {
 		{api.Tree{L: many(100000, api.Tree{L: many(1, one)})}, 3, 200001},
 	} {
 		if d, n := tree.Depth(c.x), tree.Size(c.x); d != c.depth || n != c.size {
-			t.Errorf("%.300v: Depth %d, Size %d; want %d, %d", c.x, d, n, c.depth, c.size)
+			t.Errorf("%v: Depth %d, Size %d; want %d, %d", c.x, d, n, c.depth, c.size)
 		}
 	}
 }
@@ -477,7 +477,7 @@ func TestDepthAndSize(t *testing.T) {
 func checkSame(t *testing.T, a, b api.Tree, want bool) {
 	t.Helper()
 	if tree.Same(a, b) != want || tree.Same(b, a) != want {
-		t.Errorf("Same(%.300v, %.300v): %v, %v; want %v", a, b, tree.Same(a, b), tree.Same(b, a), want)
+		t.Errorf("Same(%v, %v): %v, %v; want %v", a, b, tree.Same(a, b), tree.Same(b, a), want)
 	}
 }
 
@@ -554,7 +554,7 @@ func checkBare(t *testing.T, x, want api.Tree) {
 	t.Helper()
 	got := tree.Bare(x)
 	if !reflect.DeepEqual(noNils(got), noNils(want)) {
-		t.Errorf("Bare(%.300v): %.300v; want %.300v", x, got, want)
+		t.Errorf("Bare(%v): %v; want %v", x, got, want)
 	}
 }
 
